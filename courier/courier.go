@@ -1,0 +1,100 @@
+// Package courier: typed streams that go on behind broken connections: see DOC.md.
+package courier
+
+import (
+	"courier/api"
+	"courier/schemas"
+)
+
+// Deframer takes frames out of bytes that come in pieces.
+type Deframer struct{}
+
+// Server has topics, and answers questions.
+type Server struct{}
+
+// Client reads streams, and asks.
+type Client struct{}
+
+// Check tells whether a text is a schema (P3).
+func Check(schema string) (api.Errno, int) {
+	_, e, at := schemas.Read(schema)
+	return e, at
+}
+
+// Encode gives the bytes of a value (P4).
+func Encode(schema string, base string, value string) ([]byte, api.Errno) { return nil, api.OK }
+
+// Decode gives the value of bytes (P5).
+func Decode(schema string, base string, data []byte) (string, api.Errno) { return "", api.OK }
+
+// Frame gives the frame of a payload (P6).
+func Frame(payload []byte) ([]byte, api.Errno) { return nil, api.OK }
+
+// NewDeframer makes one that has had no bytes (P6).
+func NewDeframer() *Deframer { return nil }
+
+// Feed takes bytes (P6).
+func (d *Deframer) Feed(chunk []byte) ([][]byte, api.Errno) { return nil, api.OK }
+
+// NewServer makes a server (P7).
+func NewServer(schema string, c api.Config) (*Server, api.Errno) { return nil, api.OK }
+
+// Up tells of a connection (P8).
+func (s *Server) Up(conn int) api.Errno { return api.OK }
+
+// Down tells that it is no more (P8).
+func (s *Server) Down(conn int) api.Errno { return api.OK }
+
+// Tick lets time go by (P8).
+func (s *Server) Tick() {}
+
+// Receive takes a frame (P8).
+func (s *Server) Receive(conn int, frame []byte) api.Errno { return api.OK }
+
+// Out gives the frames that are to go out (P8).
+func (s *Server) Out() [][]byte { return nil }
+
+// Publish puts a value behind a topic's others (P9).
+func (s *Server) Publish(topic string, value string) api.Errno { return api.OK }
+
+// Finish ends a topic (P9).
+func (s *Server) Finish(topic string) api.Errno { return api.OK }
+
+// Next gives the oldest question (P12).
+func (s *Server) Next() (api.Question, bool) { return api.Question{}, false }
+
+// Reply answers a question (P12).
+func (s *Server) Reply(id int, value string) api.Errno { return api.OK }
+
+// Restart forgets all sessions (P9).
+func (s *Server) Restart() {}
+
+// NewClient makes a client (P7).
+func NewClient(schema string, c api.Config, token uint64) (*Client, api.Errno) { return nil, api.OK }
+
+// Up tells of a connection (P8).
+func (c *Client) Up(conn int) api.Errno { return api.OK }
+
+// Down tells that it is no more (P8).
+func (c *Client) Down(conn int) api.Errno { return api.OK }
+
+// Tick lets time go by (P8).
+func (c *Client) Tick() {}
+
+// Receive takes a frame (P8).
+func (c *Client) Receive(conn int, frame []byte) api.Errno { return api.OK }
+
+// Out gives the frames that are to go out (P8).
+func (c *Client) Out() [][]byte { return nil }
+
+// Subscribe begins a stream (P10).
+func (c *Client) Subscribe(topic string, cursor string) (int, api.Errno) { return 0, api.OK }
+
+// Poll gives a stream's next event (P10).
+func (c *Client) Poll(stream int) (api.Event, api.Errno) { return api.Event{}, api.OK }
+
+// Call asks a question (P12).
+func (c *Client) Call(name string, value string) (int, api.Errno) { return 0, api.OK }
+
+// Answer gives a call's next event (P12).
+func (c *Client) Answer(call int) (api.Event, api.Errno) { return api.Event{}, api.OK }

@@ -1,0 +1,43 @@
+package schemas
+
+import (
+	"reflect"
+	"strings"
+	"testing"
+
+	"courier/api"
+)
+
+func TestReadGivesTheItems(t *testing.T) {
+	items, e, at := Read("message p{1 x int 7 m list p}enum c{r g}stream t p call a\np opt1 enum opt1{y}message q{3 n opt c}")
+	if e != api.OK || at != 0 {
+		t.Fatalf("P3: Read = %d, %d", e, at)
+	}
+	want := []Item{
+		{Kind: Message, Name: Name{"p", 8}, Fields: []Field{
+			{Number{1, 10}, Name{"x", 12}, Plain, Name{"int", 14}},
+			{Number{7, 18}, Name{"m", 20}, List, Name{"p", 27}},
+		}},
+		{Kind: Enum, Name: Name{"c", 34}, Names: []Name{{"r", 36}, {"g", 38}}},
+		{Kind: Stream, Name: Name{"t", 47}, Base: Name{"p", 49}},
+		{Kind: Call, Name: Name{"a", 56}, Base: Name{"p", 58}, Answer: Name{"opt1", 60}},
+		{Kind: Enum, Name: Name{"opt1", 70}, Names: []Name{{"y", 75}}},
+		{Kind: Message, Name: Name{"q", 85}, Fields: []Field{{Number{3, 87}, Name{"n", 89}, Opt, Name{"c", 95}}}},
+	}
+	if !reflect.DeepEqual(items, want) {
+		t.Errorf("P3: Read gives %v, want %v", items, want)
+	}
+}
+
+func TestReadGivesNoItemsWithAnError(t *testing.T) {
+	for text, want := range map[string]api.Errno{
+		"enum a { b } enum":                      api.ErrSyntax,
+		"enum a { b } enum a { b }":              api.ErrName,
+		strings.Repeat(" ", api.MaxSchema+1):     api.ErrLong,
+		"enum a { b } message c { 1 x c } enum ": api.ErrSyntax,
+	} {
+		if items, e, _ := Read(text); items != nil || e != want {
+			t.Errorf("P1: Read(%.40q) = %v, %d, want none, %d", text, items, e, want)
+		}
+	}
+}
