@@ -4,6 +4,7 @@ package courier
 import (
 	"courier/api"
 	"courier/schemas"
+	"courier/values"
 )
 
 // Deframer takes frames out of bytes that come in pieces.
@@ -22,10 +23,22 @@ func Check(schema string) (api.Errno, int) {
 }
 
 // Encode gives the bytes of a value (P4).
-func Encode(schema string, base string, value string) ([]byte, api.Errno) { return nil, api.OK }
+func Encode(schema string, base string, value string) ([]byte, api.Errno) {
+	items, e, _ := schemas.Read(schema)
+	if e != api.OK {
+		return nil, api.ErrSchema
+	}
+	return values.Encode(items, base, value)
+}
 
 // Decode gives the value of bytes (P5).
-func Decode(schema string, base string, data []byte) (string, api.Errno) { return "", api.OK }
+func Decode(schema string, base string, data []byte) (string, api.Errno) {
+	items, e, _ := schemas.Read(schema)
+	if e != api.OK {
+		return "", api.ErrSchema
+	}
+	return values.Decode(items, base, data)
+}
 
 // Frame gives the frame of a payload (P6).
 func Frame(payload []byte) ([]byte, api.Errno) { return nil, api.OK }

@@ -65,7 +65,7 @@ func sunkNumbers(fields []Field) []int {
 func unknownBases(items []Item, item Item) []int {
 	var places []int
 	for _, base := range bases(item) {
-		if !IsBuiltin(base.Text) && findType(items, base.Text) < 0 {
+		if !HasBase(items, base.Text) {
 			places = append(places, base.At)
 		}
 	}

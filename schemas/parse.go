@@ -97,7 +97,7 @@ func (p *parser) name(name *Name) bool {
 
 func (p *parser) base(base *Name) bool {
 	*base = Name{p.now.text, p.now.at}
-	return (!isWord(base.Text) || IsBuiltin(base.Text)) && p.mark(nameToken)
+	return (!isWord(base.Text) || isBuiltin(base.Text)) && p.mark(nameToken)
 }
 
 func (p *parser) number(number *Number) bool {
@@ -111,5 +111,5 @@ func isWord(name string) bool {
 	case "message", "enum", "stream", "call", "opt", "list":
 		return true
 	}
-	return IsBuiltin(name)
+	return isBuiltin(name)
 }

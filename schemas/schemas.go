@@ -71,8 +71,31 @@ func Read(text string) ([]Item, api.Errno, int) {
 	return items, api.OK, 0
 }
 
-// IsBuiltin tells whether a base is one that every schema has.
-func IsBuiltin(base string) bool {
+// HasBase tells whether a base is one that every schema has, or one of these
+// items.
+func HasBase(items []Item, base string) bool {
+	return isBuiltin(base) || findType(items, base) >= 0
+}
+
+// Type gives the message or enum of that name.
+func Type(items []Item, name string) (Item, bool) {
+	place := findType(items, name)
+	if place < 0 {
+		return Item{}, false
+	}
+	return items[place], true
+}
+
+// Choices gives the texts of an enum's NAMEs.
+func (item Item) Choices() []string {
+	var texts []string
+	for _, name := range item.Names {
+		texts = append(texts, name.Text)
+	}
+	return texts
+}
+
+func isBuiltin(base string) bool {
 	return base == "int" || base == "bool" || base == "text"
 }
 

@@ -41,3 +41,18 @@ func TestReadGivesNoItemsWithAnError(t *testing.T) {
 		}
 	}
 }
+
+func TestTypesOfASchema(t *testing.T) {
+	items, _, _ := Read("stream a int enum b { a c } call c int int message d { 1 x int }")
+	for base, want := range map[string]bool{"int": true, "bool": true, "text": true, "b": true, "d": true, "a": false, "c": false, "x": false, "opt": false, "": false} {
+		if got := HasBase(items, base); got != want {
+			t.Errorf("HasBase(%q) = %v", base, got)
+		}
+	}
+	if item, ok := Type(items, "b"); !ok || !reflect.DeepEqual(item.Choices(), []string{"a", "c"}) {
+		t.Errorf("Type of b = %v, %v", item, ok)
+	}
+	if item, ok := Type(items, "a"); ok || !reflect.DeepEqual(item, Item{}) {
+		t.Errorf("Type of a = %v, %v", item, ok)
+	}
+}
