@@ -3,12 +3,15 @@ package courier
 
 import (
 	"courier/api"
+	"courier/frames"
 	"courier/schemas"
 	"courier/values"
 )
 
 // Deframer takes frames out of bytes that come in pieces.
-type Deframer struct{}
+type Deframer struct {
+	cutter frames.Cutter
+}
 
 // Server has topics, and answers questions.
 type Server struct{}
@@ -41,13 +44,23 @@ func Decode(schema string, base string, data []byte) (string, api.Errno) {
 }
 
 // Frame gives the frame of a payload (P6).
-func Frame(payload []byte) ([]byte, api.Errno) { return nil, api.OK }
+func Frame(payload []byte) ([]byte, api.Errno) {
+	return frames.Wrap(payload)
+}
 
 // NewDeframer makes one that has had no bytes (P6).
-func NewDeframer() *Deframer { return nil }
+func NewDeframer() *Deframer {
+	return &Deframer{}
+}
 
 // Feed takes bytes (P6).
-func (d *Deframer) Feed(chunk []byte) ([][]byte, api.Errno) { return nil, api.OK }
+func (d *Deframer) Feed(chunk []byte) ([][]byte, api.Errno) {
+	if d == nil {
+		// No call gives such a one, but none may panic at it (P1).
+		return nil, api.ErrFrame
+	}
+	return d.cutter.Feed(chunk)
+}
 
 // NewServer makes a server (P7).
 func NewServer(schema string, c api.Config) (*Server, api.Errno) { return nil, api.OK }
