@@ -3,6 +3,7 @@ package courier
 
 import (
 	"courier/api"
+	"courier/ends"
 	"courier/frames"
 	"courier/schemas"
 	"courier/values"
@@ -14,10 +15,14 @@ type Deframer struct {
 }
 
 // Server has topics, and answers questions.
-type Server struct{}
+type Server struct {
+	made *ends.Server
+}
 
 // Client reads streams, and asks.
-type Client struct{}
+type Client struct {
+	made *ends.Client
+}
 
 // Check tells whether a text is a schema (P3).
 func Check(schema string) (api.Errno, int) {
@@ -63,64 +68,96 @@ func (d *Deframer) Feed(chunk []byte) ([][]byte, api.Errno) {
 }
 
 // NewServer makes a server (P7).
-func NewServer(schema string, c api.Config) (*Server, api.Errno) { return nil, api.OK }
+func NewServer(schema string, c api.Config) (*Server, api.Errno) {
+	made, e := ends.NewServer(schema, c)
+	if e != api.OK {
+		return nil, e
+	}
+	return &Server{made}, api.OK
+}
+
+// end gives one without topics, on which no connection comes up, for a server
+// that NewServer did not make: no call may panic at it (P1).
+func (s *Server) end() *ends.Server {
+	if s == nil || s.made == nil {
+		return &ends.Server{}
+	}
+	return s.made
+}
 
 // Up tells of a connection (P8).
-func (s *Server) Up(conn int) api.Errno { return api.OK }
+func (s *Server) Up(conn int) api.Errno { return s.end().Up(conn) }
 
 // Down tells that it is no more (P8).
-func (s *Server) Down(conn int) api.Errno { return api.OK }
+func (s *Server) Down(conn int) api.Errno { return s.end().Down(conn) }
 
 // Tick lets time go by (P8).
-func (s *Server) Tick() {}
+func (s *Server) Tick() { s.end().Tick() }
 
 // Receive takes a frame (P8).
-func (s *Server) Receive(conn int, frame []byte) api.Errno { return api.OK }
+func (s *Server) Receive(conn int, frame []byte) api.Errno { return s.end().Receive(conn, frame) }
 
 // Out gives the frames that are to go out (P8).
-func (s *Server) Out() [][]byte { return nil }
+func (s *Server) Out() [][]byte { return s.end().Out() }
 
 // Publish puts a value behind a topic's others (P9).
-func (s *Server) Publish(topic string, value string) api.Errno { return api.OK }
+func (s *Server) Publish(topic string, value string) api.Errno { return s.end().Publish(topic, value) }
 
 // Finish ends a topic (P9).
-func (s *Server) Finish(topic string) api.Errno { return api.OK }
+func (s *Server) Finish(topic string) api.Errno { return s.end().Finish(topic) }
 
-// Next gives the oldest question (P12).
+// Next gives the oldest question (P12). So far none comes.
 func (s *Server) Next() (api.Question, bool) { return api.Question{}, false }
 
-// Reply answers a question (P12).
-func (s *Server) Reply(id int, value string) api.Errno { return api.OK }
+// Reply answers a question (P12). So far Next has given none.
+func (s *Server) Reply(id int, value string) api.Errno { return api.ErrCall }
 
 // Restart forgets all sessions (P9).
-func (s *Server) Restart() {}
+func (s *Server) Restart() { s.end().Restart() }
 
 // NewClient makes a client (P7).
-func NewClient(schema string, c api.Config, token uint64) (*Client, api.Errno) { return nil, api.OK }
+func NewClient(schema string, c api.Config, token uint64) (*Client, api.Errno) {
+	made, e := ends.NewClient(schema, c, token)
+	if e != api.OK {
+		return nil, e
+	}
+	return &Client{made}, api.OK
+}
+
+// end gives one without topics, on which no connection comes up, for a client
+// that NewClient did not make: no call may panic at it (P1).
+func (c *Client) end() *ends.Client {
+	if c == nil || c.made == nil {
+		return &ends.Client{}
+	}
+	return c.made
+}
 
 // Up tells of a connection (P8).
-func (c *Client) Up(conn int) api.Errno { return api.OK }
+func (c *Client) Up(conn int) api.Errno { return c.end().Up(conn) }
 
 // Down tells that it is no more (P8).
-func (c *Client) Down(conn int) api.Errno { return api.OK }
+func (c *Client) Down(conn int) api.Errno { return c.end().Down(conn) }
 
 // Tick lets time go by (P8).
-func (c *Client) Tick() {}
+func (c *Client) Tick() { c.end().Tick() }
 
 // Receive takes a frame (P8).
-func (c *Client) Receive(conn int, frame []byte) api.Errno { return api.OK }
+func (c *Client) Receive(conn int, frame []byte) api.Errno { return c.end().Receive(conn, frame) }
 
 // Out gives the frames that are to go out (P8).
-func (c *Client) Out() [][]byte { return nil }
+func (c *Client) Out() [][]byte { return c.end().Out() }
 
 // Subscribe begins a stream (P10).
-func (c *Client) Subscribe(topic string, cursor string) (int, api.Errno) { return 0, api.OK }
+func (c *Client) Subscribe(topic string, cursor string) (int, api.Errno) {
+	return c.end().Subscribe(topic, cursor)
+}
 
 // Poll gives a stream's next event (P10).
-func (c *Client) Poll(stream int) (api.Event, api.Errno) { return api.Event{}, api.OK }
+func (c *Client) Poll(stream int) (api.Event, api.Errno) { return c.end().Poll(stream) }
 
-// Call asks a question (P12).
-func (c *Client) Call(name string, value string) (int, api.Errno) { return 0, api.OK }
+// Call asks a question (P12). So far there is never room for one.
+func (c *Client) Call(name string, value string) (int, api.Errno) { return 0, api.ErrFull }
 
-// Answer gives a call's next event (P12).
-func (c *Client) Answer(call int) (api.Event, api.Errno) { return api.Event{}, api.OK }
+// Answer gives a call's next event (P12). So far there is no call.
+func (c *Client) Answer(call int) (api.Event, api.Errno) { return api.Event{}, api.ErrStream }

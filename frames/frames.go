@@ -61,15 +61,19 @@ func (c *Cutter) add(b byte) ([]byte, bool) {
 	if c.count < countBytes+count+sumBytes {
 		return nil, false
 	}
-	payload, ok := unwrap(c.held[:c.count])
+	payload, ok := Unwrap(c.held[:c.count])
 	*c = Cutter{spoiled: !ok}
 	return payload, ok
 }
 
-// unwrap gives the payload that stands between a count and a sum. It writes the
-// frame anew, as a payload has no other one.
-func unwrap(frame []byte) ([]byte, bool) {
-	payload := bytes.Clone(frame[countBytes : len(frame)-sumBytes])
+// Unwrap gives the payload of bytes that are one frame. It writes the frame anew,
+// as a payload has no other one.
+func Unwrap(frame []byte) ([]byte, bool) {
+	count := len(frame) - countBytes - sumBytes
+	if !isCount(count) {
+		return nil, false
+	}
+	payload := bytes.Clone(frame[countBytes : countBytes+count])
 	anew, e := Wrap(payload)
 	if e != api.OK || !bytes.Equal(anew, frame) {
 		return nil, false

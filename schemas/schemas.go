@@ -86,6 +86,17 @@ func Type(items []Item, name string) (Item, bool) {
 	return items[place], true
 }
 
+// Topic gives the stream of that name.
+func Topic(items []Item, name string) (Item, bool) {
+	place := slices.IndexFunc(items, func(item Item) bool {
+		return item.Kind == Stream && item.Name.Text == name
+	})
+	if place < 0 {
+		return Item{}, false
+	}
+	return items[place], true
+}
+
 // Choices gives the texts of an enum's NAMEs.
 func (item Item) Choices() []string {
 	var texts []string

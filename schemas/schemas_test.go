@@ -56,3 +56,17 @@ func TestTypesOfASchema(t *testing.T) {
 		t.Errorf("Type of a = %v, %v", item, ok)
 	}
 }
+
+func TestTopicsOfASchema(t *testing.T) {
+	items, _, _ := Read("enum a { b } message d { 1 x int } stream a int call c int int stream e d")
+	for name, base := range map[string]string{"a": "int", "e": "d"} {
+		if item, ok := Topic(items, name); !ok || item.Kind != Stream || item.Base.Text != base {
+			t.Errorf("Topic of %s = %v, %v", name, item, ok)
+		}
+	}
+	for _, name := range []string{"", "b", "c", "d", "x", "int"} {
+		if item, ok := Topic(items, name); ok || !reflect.DeepEqual(item, Item{}) {
+			t.Errorf("Topic of %s = %v, %v", name, item, ok)
+		}
+	}
+}
