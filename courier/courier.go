@@ -106,11 +106,11 @@ func (s *Server) Publish(topic string, value string) api.Errno { return s.end().
 // Finish ends a topic (P9).
 func (s *Server) Finish(topic string) api.Errno { return s.end().Finish(topic) }
 
-// Next gives the oldest question (P12). So far none comes.
-func (s *Server) Next() (api.Question, bool) { return api.Question{}, false }
+// Next gives the oldest question that has come (P12).
+func (s *Server) Next() (api.Question, bool) { return s.end().Next() }
 
-// Reply answers a question (P12). So far Next has given none.
-func (s *Server) Reply(id int, value string) api.Errno { return api.ErrCall }
+// Reply answers a question (P12).
+func (s *Server) Reply(id int, value string) api.Errno { return s.end().Reply(id, value) }
 
 // Restart forgets all sessions (P9).
 func (s *Server) Restart() { s.end().Restart() }
@@ -156,8 +156,8 @@ func (c *Client) Subscribe(topic string, cursor string) (int, api.Errno) {
 // Poll gives a stream's next event (P10).
 func (c *Client) Poll(stream int) (api.Event, api.Errno) { return c.end().Poll(stream) }
 
-// Call asks a question (P12). So far there is never room for one.
-func (c *Client) Call(name string, value string) (int, api.Errno) { return 0, api.ErrFull }
+// Call asks a question (P12).
+func (c *Client) Call(name string, value string) (int, api.Errno) { return c.end().Call(name, value) }
 
-// Answer gives a call's next event (P12). So far there is no call.
-func (c *Client) Answer(call int) (api.Event, api.Errno) { return api.Event{}, api.ErrStream }
+// Answer gives a call's next event (P12).
+func (c *Client) Answer(call int) (api.Event, api.Errno) { return c.end().Answer(call) }

@@ -168,16 +168,23 @@ func TestFramesOfNoEnd(t *testing.T) {
 		w.connect()
 		w.publish("ticks", "1", "2", "3")
 		w.client.Subscribe("ticks", "")
+		w.client.Call("name", "1")
 		var seen [][]byte
 		for range 200 {
 			at := source.Intn(2)
 			x := w.sides[at]
-			switch source.Intn(4) {
+			switch source.Intn(5) {
 			case 0:
 				x.Tick()
 			case 1:
 				w.server.Publish("ticks", "4")
 				w.client.Subscribe("ticks", "ticks@"+strconv.Itoa(source.Intn(5)))
+			case 2:
+				w.client.Call("name", "2")
+				w.client.Call("add", "{x:1,y:2}")
+				q, _ := w.server.Next()
+				w.server.Reply(q.Id, "3")
+				w.server.Reply(q.Id, `"3"`)
 			}
 			for _, frame := range x.Out() {
 				seen = append(seen, frame)
@@ -186,6 +193,7 @@ func TestFramesOfNoEnd(t *testing.T) {
 			x.Receive(1, madeUpFrame(source, seen))
 			for number := range 10 {
 				w.client.Poll(number)
+				w.client.Answer(number)
 			}
 		}
 	}
@@ -229,9 +237,9 @@ func TestEndsThatNoCallMade(t *testing.T) {
 		event, noStream := c.Poll(0)
 		call, noCall := c.Call("a", "1")
 		answer, noAnswer := c.Answer(0)
-		answers := []api.Errno{c.Up(1), c.Down(1), c.Receive(1, nil), noTopic, noStream, noAnswer}
-		want := []api.Errno{api.ErrConn, api.ErrConn, api.ErrConn, api.ErrTopic, api.ErrStream, api.ErrStream}
-		if !slices.Equal(answers, want) || noCall == api.OK || stream != 0 || call != 0 || event != (api.Event{}) || answer != (api.Event{}) || c.Out() != nil {
+		answers := []api.Errno{c.Up(1), c.Down(1), c.Receive(1, nil), noTopic, noStream, noCall, noAnswer}
+		want := []api.Errno{api.ErrConn, api.ErrConn, api.ErrConn, api.ErrTopic, api.ErrStream, api.ErrCall, api.ErrStream}
+		if !slices.Equal(answers, want) || stream != 0 || call != 0 || event != (api.Event{}) || answer != (api.Event{}) || c.Out() != nil {
 			t.Errorf("P1: a client that NewClient did not make answers %v, want %v", answers, want)
 		}
 	}
@@ -314,18 +322,4 @@ func TestErrorsOfStreams(t *testing.T) {
 	if number := w.subscribe("ticks", 0); number != 2 {
 		t.Errorf("P10: the third stream has the number %d", number)
 	}
-}
-
-// TestCallsThatAreNotBuilt: none says that it worked.
-func TestCallsThatAreNotBuilt(t *testing.T) {
-	w := newWorld(t, 2, 10, 4)
-	w.settle()
-	if call, e := w.client.Call("add", "{x:1,y:2}"); call != 0 || e != api.ErrFull {
-		t.Errorf("P12: Call = %d, %d", call, e)
-	}
-	if event, e := w.client.Answer(0); event != (api.Event{}) || e != api.ErrStream {
-		t.Errorf("P12: Answer of no call = %v, %d", event, e)
-	}
-	w.is("P12: Reply to no question", w.server.Reply(0, "3"), api.ErrCall)
-	w.rounds(3)
 }

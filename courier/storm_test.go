@@ -37,8 +37,12 @@ func (s *storm) step() {
 		s.tickSometimes(at)
 	case n < 78:
 		s.publishOne()
-	case n < 84:
+	case n < 83:
 		s.askOne()
+	case n < 87:
+		s.callOne()
+	case n < 89:
+		s.replyOne()
 	case n < 92:
 		s.pollOne()
 	case n < 95:
@@ -106,9 +110,24 @@ func (s *storm) askOne() {
 	s.ask(topic, max(0, position))
 }
 
+func (s *storm) callOne() {
+	s.tryCall([]string{"add", "name"}[s.source.Intn(2)])
+}
+
+// replyOne takes a question, and replies to any one that waits for it.
+func (s *storm) replyOne() {
+	s.next()
+	if len(s.owed) > 0 && s.source.Intn(3) > 0 {
+		s.reply(s.owed[s.source.Intn(len(s.owed))])
+	}
+}
+
 func (s *storm) pollOne() {
 	if len(s.streams) > 0 {
 		s.poll(s.source.Intn(len(s.streams)))
+	}
+	if len(s.calls) > 0 {
+		s.answer(len(s.calls) - 1 - s.source.Intn(min(len(s.calls), 4)))
 	}
 }
 
@@ -131,6 +150,7 @@ func (s *storm) seldom() {
 		s.finish("words")
 	} else if n < 4 {
 		s.pollAll()
+		s.answerAll()
 	}
 }
 
@@ -165,23 +185,32 @@ func (s *storm) settleDown() {
 	s.rounds(2)
 }
 
+// mustNotBeFull asks for one thing, of which P14 says that it may be asked.
 func (s *storm) mustNotBeFull() {
-	if len(s.open()) < api.MaxStreams {
-		s.subscribe("hues", 0)
-	} else if s.ask("hues", 0) {
-		s.t.Fatalf("P10: there are nine streams")
+	if len(s.open()) == api.MaxStreams {
+		s.refusesStreams()
+		s.refusesCalls()
+		return
 	}
+	if s.source.Intn(2) == 0 {
+		s.subscribe("hues", 0)
+		return
+	}
+	s.call("add")
 }
 
 // TestStorms holds what comes out against the ledger, many times over.
 func TestStorms(t *testing.T) {
 	for _, rough := range []bool{false, true} {
-		counts, late := map[int]int{}, 0
+		counts, ends, late := map[int]int{}, map[int]int{}, 0
 		for seed := range 700 {
 			s := newStorm(t, rand.New(rand.NewSource(int64(seed))), rough)
 			s.run(50 + seed%200)
 			for kind, count := range s.counts {
 				counts[kind] += count
+			}
+			for kind, count := range s.ends {
+				ends[kind] += count
 			}
 			late += s.late
 		}
@@ -192,6 +221,9 @@ func TestStorms(t *testing.T) {
 			if counts[kind] < least {
 				t.Errorf("only %d events of the kind %d: the storms try too little", counts[kind], kind)
 			}
+		}
+		if ends[api.Value] < 3000 || rough != (ends[api.Broken] > 1000) {
+			t.Errorf("only %v events of calls: the storms try too little", ends)
 		}
 	}
 }

@@ -397,10 +397,9 @@ func TestWindow(t *testing.T) {
 // hurt is what happens to frames on their way.
 type hurt func(w *world, flights []flight) []flight
 
-// TestFramesOnTheirWay: what may happen to frames changes nothing of the values.
-func TestFramesOnTheirWay(t *testing.T) {
+func hurts() map[string]hurt {
 	var kept []flight
-	for name, h := range map[string]hurt{
+	return map[string]hurt{
 		"nothing": func(w *world, flights []flight) []flight { return flights },
 		"doubled": func(w *world, flights []flight) []flight { return slices.Concat(flights, flights) },
 		"each doubled": func(w *world, flights []flight) []flight {
@@ -432,9 +431,27 @@ func TestFramesOnTheirWay(t *testing.T) {
 			}
 			return flights
 		},
-	} {
+	}
+}
+
+// hurtRound is a round in which that happens to all frames, up to the Polls.
+func (w *world) hurtRound(h hurt) {
+	w.t.Helper()
+	w.tick(clientSide)
+	w.tick(serverSide)
+	for range 6 {
+		for _, at := range []int{clientSide, serverSide} {
+			for _, f := range h(w, w.out(at)) {
+				w.hand(f)
+			}
+		}
+	}
+}
+
+// TestFramesOnTheirWay: what may happen to frames changes nothing of the values.
+func TestFramesOnTheirWay(t *testing.T) {
+	for name, h := range hurts() {
 		t.Run(name, func(t *testing.T) {
-			kept = nil
 			w := newWorld(t, 3, 10, 16)
 			w.connect()
 			for range 4 {
@@ -448,16 +465,7 @@ func TestFramesOnTheirWay(t *testing.T) {
 				if n == 20 {
 					w.finish("marks")
 				}
-				for _, at := range []int{clientSide, serverSide} {
-					w.tick(at)
-				}
-				for range 6 {
-					for _, at := range []int{clientSide, serverSide} {
-						for _, f := range h(w, w.out(at)) {
-							w.hand(f)
-						}
-					}
-				}
+				w.hurtRound(h)
 				w.pollAll()
 			}
 			w.calm()

@@ -10,7 +10,7 @@ import (
 	"courier/courier"
 )
 
-const worldSchema = "message point { 1 x int 2 y int 5 tag opt text } enum color { red green } stream ticks int stream marks point stream words text stream hues color call add point int"
+const worldSchema = "message point { 1 x int 2 y int 5 tag opt text } enum color { red green } stream ticks int stream marks point stream words text stream hues color call add point int call name int text"
 
 type side interface {
 	Up(int) api.Errno
@@ -47,6 +47,14 @@ type reading struct {
 	mustExpire bool // it was so all the time
 }
 
+// asking is what the document says of a call.
+type asking struct {
+	name, value string
+	answer      string // what was replied
+	replied     bool
+	ended       bool
+}
+
 // world is a server and a client, the frames between them, and a ledger of what
 // the document lets come out of them: it fails the test at anything else. It is
 // blind for what payloads say.
@@ -62,9 +70,13 @@ type world struct {
 	handed   [2]int // frames
 	topics   map[string]*record
 	streams  []*reading
-	asked    int  // subscriptions since all was calm
-	mayBreak bool // there was a cause of P11 for all streams since all was calm
+	calls    []*asking
+	given    []int // the calls that Next gave, by their ids
+	owed     []int // the ids that were not replied to
+	asked    int   // subscriptions and calls since all was calm
+	mayBreak bool  // there was a cause of P11 for all streams and calls since all was calm
 	counts   map[int]int
+	ends     map[int]int // of calls, by kind
 }
 
 func newWorld(t *testing.T, window, deadline, retain int) *world {
@@ -75,7 +87,7 @@ func newWorld(t *testing.T, window, deadline, retain int) *world {
 	if e != api.OK || f != api.OK || server == nil || client == nil {
 		t.Fatalf("P7: NewServer and NewClient with %v answer %d, %d", c, e, f)
 	}
-	w := &world{t: t, config: c, client: client, server: server, sides: [2]side{client, server}, topics: map[string]*record{}, counts: map[int]int{}}
+	w := &world{t: t, config: c, client: client, server: server, sides: [2]side{client, server}, topics: map[string]*record{}, counts: map[int]int{}, ends: map[int]int{}}
 	for _, topic := range []string{"ticks", "marks", "words", "hues"} {
 		w.topics[topic] = &record{}
 	}
@@ -201,9 +213,9 @@ func (w *world) round(lost func() bool) {
 	w.tick(serverSide)
 	w.exchange(lost)
 	w.pollAll()
-	if _, ok := w.server.Next(); ok {
-		w.t.Fatalf("P12: Next gives a question where none was asked")
-	}
+	w.nextAll()
+	w.replyAll()
+	w.answerAll()
 }
 
 func (w *world) rounds(count int) {
@@ -226,7 +238,7 @@ func (w *world) settle() {
 
 func (w *world) calm() {
 	w.t.Helper()
-	count := 20 + len(w.open())
+	count := 20 + len(w.open()) + w.openCalls()
 	for _, topic := range w.topics {
 		count += len(topic.values) - w.gone(topic)
 	}
@@ -236,6 +248,9 @@ func (w *world) calm() {
 		if !s.ended && (topic.finished || s.begin+s.given != len(topic.values)) {
 			w.t.Fatalf("P14: behind %d rounds stream %d from %s@%d on has given %d of %d values (finished: %v)", count, number, s.topic, s.begin, s.given, len(topic.values), topic.finished)
 		}
+	}
+	if w.openCalls() > 0 {
+		w.t.Fatalf("P14: behind %d rounds %d of %d calls have not ended, with %d questions given", count, w.openCalls(), len(w.calls), len(w.given))
 	}
 	w.mayBreak, w.asked = false, 0
 }
@@ -383,5 +398,154 @@ func (w *world) wantsEnd(number, count, end int) {
 	w.t.Helper()
 	if n, kind := w.pollStream(number); n != count || kind != end {
 		w.t.Fatalf("P11: stream %d gives %d values and then %d, want %d and %d", number, n, kind, count, end)
+	}
+}
+
+// openCalls tells how many calls have not ended.
+func (w *world) openCalls() int {
+	count := 0
+	for _, c := range w.calls {
+		if !c.ended {
+			count++
+		}
+	}
+	return count
+}
+
+// tryCall asks a question that no other one is like, and holds what Call answers
+// against the ledger, as ask does.
+func (w *world) tryCall(name string) bool {
+	w.t.Helper()
+	value := strconv.Itoa(len(w.calls))
+	if name == "add" {
+		value = "{x:" + value + ",y:-1}"
+	}
+	number, e := w.client.Call(name, value)
+	isFull := w.openCalls() >= w.config.Window || len(w.open()) >= api.MaxStreams
+	if e == api.ErrFull && number == 0 && (isFull || w.asked >= w.config.Window) {
+		return false
+	}
+	if e != api.OK || number != len(w.calls) || isFull {
+		w.t.Fatalf("P12: Call(%s, %s) = %d, %d, with %d calls and %d streams that have not ended, %d asked lately", name, value, number, e, w.openCalls(), len(w.open()), w.asked)
+	}
+	w.calls = append(w.calls, &asking{name: name, value: value})
+	w.asked++
+	return true
+}
+
+func (w *world) call(name string) int {
+	w.t.Helper()
+	if !w.tryCall(name) {
+		w.t.Fatalf("P12: Call(%s) answers ErrFull", name)
+	}
+	return len(w.calls) - 1
+}
+
+// next takes a question, which must be of a call that was made behind those of the
+// questions ahead of it, and tells whether there was one.
+func (w *world) next() bool {
+	w.t.Helper()
+	q, ok := w.server.Next()
+	if !ok {
+		if q != (api.Question{}) {
+			w.t.Fatalf("P12: Next gives %v and false", q)
+		}
+		return false
+	}
+	first := 0
+	if len(w.given) > 0 {
+		first = w.given[len(w.given)-1] + 1
+	}
+	place := slices.IndexFunc(w.calls[first:], func(c *asking) bool { return c.name == q.Name && c.value == q.Value })
+	if place < 0 || q.Id != len(w.given) {
+		w.t.Fatalf("P12: behind %d questions, the last one of call %d, Next gives %v", len(w.given), first-1, q)
+	}
+	w.owed = append(w.owed, q.Id)
+	w.given = append(w.given, first+place)
+	return true
+}
+
+func (w *world) nextAll() {
+	w.t.Helper()
+	for w.next() {
+	}
+}
+
+// nexts takes so many questions, and there must be no more.
+func (w *world) nexts(count int) {
+	w.t.Helper()
+	before := len(w.given)
+	w.nextAll()
+	if got := len(w.given) - before; got != count {
+		w.t.Fatalf("P12: Next gives %d questions, want %d", got, count)
+	}
+}
+
+// reply answers a question in a way that no other one is answered.
+func (w *world) reply(id int) {
+	w.t.Helper()
+	c := w.calls[w.given[id]]
+	c.answer = strconv.Itoa(-1000 - id)
+	if c.name == "name" {
+		c.answer = `"answer ` + strconv.Itoa(id) + `"`
+	}
+	c.replied = true
+	w.is("P12: Reply", w.server.Reply(id, c.answer), api.OK)
+	w.is("P12: Reply once more", w.server.Reply(id, c.answer), api.ErrCall)
+	w.owed = slices.DeleteFunc(w.owed, func(n int) bool { return n == id })
+}
+
+func (w *world) replyAll() {
+	w.t.Helper()
+	for _, id := range slices.Clone(w.owed) {
+		w.reply(id)
+	}
+}
+
+// answer gives a call's next event, which it holds against the ledger.
+func (w *world) answer(number int) api.Event {
+	w.t.Helper()
+	event, e := w.client.Answer(number)
+	w.is("P12: Answer", e, api.OK)
+	c := w.calls[number]
+	mayCome := event == api.Event{} ||
+		!c.ended && c.replied && event == api.Event{Kind: api.Value, Value: c.answer} ||
+		!c.ended && w.mayBreak && event == api.Event{Kind: api.Broken}
+	if !mayCome {
+		w.t.Fatalf("P12: call %d (%+v) gives %v, with a cause to break: %v", number, *c, event, w.mayBreak)
+	}
+	c.ended = c.ended || event.Kind != api.None
+	w.ends[event.Kind]++
+	return event
+}
+
+func (w *world) answerAll() {
+	w.t.Helper()
+	for number := range w.calls {
+		w.answer(number)
+	}
+}
+
+// wantsAnswer asks for a call's next event, which must be of that kind.
+func (w *world) wantsAnswer(number, kind int) {
+	w.t.Helper()
+	if event := w.answer(number); event.Kind != kind {
+		w.t.Fatalf("P12: call %d gives %v, want the kind %d", number, event, kind)
+	}
+}
+
+// refusesCalls holds that Call answers ErrFull.
+func (w *world) refusesCalls() {
+	w.t.Helper()
+	if number, e := w.client.Call("name", "-1"); number != 0 || e != api.ErrFull {
+		w.t.Fatalf("P12: Call = %d, %d, with %d calls that have not ended, want ErrFull", number, e, w.openCalls())
+	}
+}
+
+// refusesStreams holds that Subscribe answers ErrFull.
+func (w *world) refusesStreams() {
+	w.t.Helper()
+	if number, e := w.client.Subscribe("hues", ""); number != 0 || e != api.ErrFull {
+		w.t.Fatalf("P10: Subscribe = %d, %d, want ErrFull", number, e)
 	}
 }

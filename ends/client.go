@@ -8,7 +8,7 @@ import (
 	"courier/schemas"
 )
 
-// Client reads streams.
+// Client reads streams, and asks questions.
 type Client struct {
 	end
 	token   uint64
@@ -21,6 +21,8 @@ type Client struct {
 
 	streams []*stream // those that have not ended
 	made    int       // streams so far
+	calls   []*call   // those that have not ended
+	called  int       // calls so far
 }
 
 // NewClient makes a client (P7).
@@ -50,11 +52,15 @@ func (c *Client) Tick() {
 	c.speak()
 }
 
-// leave ends the session, and its streams with it (P13). What is asked from now on
-// is for the next one.
+// leave ends the session, and its streams and calls with it (P13). What is asked
+// from now on is for the next one: a call that may have come must not come again
+// (P12).
 func (c *Client) leave() {
 	for _, s := range c.streams {
 		s.finish(api.Broken)
+	}
+	for _, one := range c.calls {
+		one.finish(api.Event{Kind: api.Broken})
 	}
 	c.attempt++
 	c.session, c.next, c.asked = 0, 0, nil
@@ -72,6 +78,22 @@ func (c *Client) speak() {
 	for _, request := range c.asked {
 		c.ask(request)
 	}
+}
+
+// request has something asked now and till it is known to have come, and gives the
+// number that it has in the session.
+func (c *Client) request(p payloads.Payload) uint64 {
+	p.Number = c.next
+	c.next++
+	c.asked = append(c.asked, p)
+	c.ask(p)
+	return p.Number
+}
+
+// isFull tells whether no more may be asked, as far as streams and calls share it
+// (P10, P12).
+func (c *Client) isFull() bool {
+	return len(c.streams) >= api.MaxStreams || len(c.asked) >= c.config.Window
 }
 
 // ask sends a request, if there is a session to send it in.
@@ -107,6 +129,7 @@ func (c *Client) take(p payloads.Payload) {
 		payloads.Finished: (*Client).finished,
 		payloads.Lost:     (*Client).lost,
 		payloads.Missed:   (*Client).missed,
+		payloads.Answer:   (*Client).answered,
 		payloads.Unknown:  (*Client).unknown,
 	}
 	if int(p.Kind) >= len(does) || does[p.Kind] == nil {
@@ -130,8 +153,13 @@ func (c *Client) welcome(p payloads.Payload) {
 
 func (c *Client) heard(p payloads.Payload) {
 	if c.isOurs(p) {
-		c.asked = slices.DeleteFunc(c.asked, func(request payloads.Payload) bool { return request.Number < p.Number })
+		c.forget(p.Number)
 	}
+}
+
+// forget has the requests below a number not asked any more: they have come.
+func (c *Client) forget(below uint64) {
+	c.asked = slices.DeleteFunc(c.asked, func(request payloads.Payload) bool { return request.Number < below })
 }
 
 func (c *Client) unknown(p payloads.Payload) {
@@ -180,11 +208,14 @@ func (c *Client) reader(p payloads.Payload) *stream {
 	return c.streams[place]
 }
 
-// tell answers a payload that was for a stream by how far the stream is.
+// tell answers a payload that was for a stream by how far the stream is. That
+// there is such a payload says that the request has come, even if the word of that
+// was lost.
 func (c *Client) tell(p payloads.Payload) {
 	if !c.isOurs(p) {
 		return
 	}
+	c.forget(p.Number + 1)
 	s := c.reader(p)
 	if s == nil {
 		c.post(c.payload(payloads.Done, p.Number))
@@ -197,7 +228,7 @@ func (c *Client) tell(p payloads.Payload) {
 
 // Subscribe begins a stream (P10).
 func (c *Client) Subscribe(topic string, cursor string) (int, api.Errno) {
-	item, ok := schemas.Topic(c.items, topic)
+	item, ok := schemas.Find(c.items, schemas.Stream, topic)
 	if !ok {
 		return 0, api.ErrTopic
 	}
@@ -205,16 +236,13 @@ func (c *Client) Subscribe(topic string, cursor string) (int, api.Errno) {
 	if !ok {
 		return 0, api.ErrCursor
 	}
-	if len(c.streams) >= api.MaxStreams || len(c.asked) >= c.config.Window {
+	if c.isFull() {
 		return 0, api.ErrFull
 	}
-	s := &stream{number: c.made, request: c.next, topic: item, begin: position, got: position}
+	request := c.request(payloads.Payload{Kind: payloads.Subscribe, Position: position, Data: item.Name.Text})
+	s := &stream{number: c.made, request: request, topic: item, begin: position, got: position}
 	c.streams = append(c.streams, s)
 	c.made++
-	request := payloads.Payload{Kind: payloads.Subscribe, Number: c.next, Position: position, Data: item.Name.Text}
-	c.asked = append(c.asked, request)
-	c.next++
-	c.ask(request)
 	return s.number, api.OK
 }
 

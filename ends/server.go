@@ -8,13 +8,18 @@ import (
 	"courier/values"
 )
 
-// Server has topics, and feeds their values to the streams of sessions.
+// Server has topics, and feeds their values to the streams of sessions; it takes
+// questions, and gives the answers to those who asked.
 type Server struct {
 	end
 	topics   []*topic
 	sessions map[uint64]*session // by the client's token
 	current  *session            // the one whose client spoke last over the connection that is up
 	begun    uint64              // sessions so far; Restart too leaves it, so that no late frame is taken for one of a later session
+
+	waits []question  // those that Next has not given, the oldest first
+	given int         // questions that it has given so far
+	owed  map[int]way // those of them that are not replied to, by their ids
 }
 
 // NewServer makes a server (P7).
@@ -23,7 +28,7 @@ func NewServer(schema string, c api.Config) (*Server, api.Errno) {
 	if e != api.OK {
 		return nil, e
 	}
-	return &Server{end: shared, topics: topicsOf(shared.items), sessions: map[uint64]*session{}}, api.OK
+	return &Server{end: shared, topics: topicsOf(shared.items), sessions: map[uint64]*session{}, owed: map[int]way{}}, api.OK
 }
 
 // Up tells of a connection (P8). Which client is at its other end is not known
@@ -57,13 +62,17 @@ func (s *Server) quit() {
 }
 
 // speak says all that the client may not know, and at least that the server is
-// there.
+// there. Answers come ahead of values: of these there may be too many for one Out,
+// and those that had no room go on by themselves.
 func (s *Server) speak() {
 	if s.current == nil {
 		s.post(payloads.Payload{Kind: payloads.Heard})
 		return
 	}
 	s.post(s.current.heard())
+	for _, answer := range s.current.answers {
+		s.post(answer)
+	}
 	for _, f := range s.current.feeds {
 		f.sent = f.got
 		s.push(f)
@@ -88,6 +97,7 @@ func (s *Server) take(p payloads.Payload) {
 		payloads.Hello:     (*Server).hello,
 		payloads.Here:      (*Server).here,
 		payloads.Subscribe: (*Server).subscribe,
+		payloads.Call:      (*Server).call,
 		payloads.Got:       (*Server).got,
 		payloads.Done:      (*Server).done,
 	}
@@ -121,18 +131,27 @@ func (s *Server) here(p payloads.Payload) {
 	}
 }
 
-// subscribe takes requests in their order alone, each once.
-func (s *Server) subscribe(p payloads.Payload) {
+// request gives the session of a request that is its next one, and nil else:
+// requests are taken in their order alone, each once.
+func (s *Server) request(p payloads.Payload) *session {
 	one := s.sessionOf(p)
 	if one == nil {
-		return
+		return nil
 	}
 	isNext := p.Number == one.next
 	if isNext {
 		one.next++
 	}
 	s.post(one.heard())
-	if t := s.topic(p.Data); isNext && t != nil {
+	if !isNext {
+		return nil
+	}
+	return one
+}
+
+func (s *Server) subscribe(p payloads.Payload) {
+	one := s.request(p)
+	if t := s.topic(p.Data); one != nil && t != nil {
 		f := newFeed(one, p, t)
 		one.feeds = append(one.feeds, f)
 		s.push(f)
@@ -152,6 +171,7 @@ func (s *Server) got(p payloads.Payload) {
 func (s *Server) done(p payloads.Payload) {
 	if one := s.sessionOf(p); one != nil {
 		one.feeds = slices.DeleteFunc(one.feeds, func(f *feed) bool { return f.number == p.Number })
+		one.answers = slices.DeleteFunc(one.answers, func(answer payloads.Payload) bool { return answer.Number == p.Number })
 	}
 }
 
@@ -244,8 +264,9 @@ func (s *Server) pushAll(t *topic) {
 	}
 }
 
-// Restart forgets all sessions (P9).
+// Restart forgets all sessions, and the questions that Next has not given (P9).
 func (s *Server) Restart() {
 	clear(s.sessions)
+	s.waits = nil
 	s.quit()
 }

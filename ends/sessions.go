@@ -14,6 +14,7 @@ type session struct {
 	silence int    // ticks since something came from the client
 	next    uint64 // the number of the request that is to come
 	feeds   []*feed
+	answers []payloads.Payload // those that the client may not have
 }
 
 func (one *session) payload(kind payloads.Kind, number uint64) payloads.Payload {

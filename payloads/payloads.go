@@ -13,8 +13,9 @@ const (
 	Hello     Kind = iota // asks for a session, its Number-th one (from 0); the other kinds are of a session
 	Here                  // the client is there
 	Subscribe             // request Number: a stream of the topic Data from Position on
+	Call                  // request Number: a question, Data being the call's name, a blank and the value
 	Got                   // the stream of request Number has its values up to Position
-	Done                  // the stream of request Number needs nothing more
+	Done                  // the stream or call of request Number needs nothing more
 
 	// From the server.
 
@@ -24,6 +25,7 @@ const (
 	Finished // its topic ends behind Position
 	Lost     // the value at Position is not kept any more
 	Missed   // its position was above what there was
+	Answer   // the answer Data to the question of request Number
 	Unknown  // there is no such session
 )
 
@@ -37,7 +39,8 @@ type Payload struct {
 	Data             string
 }
 
-// Write gives the bytes of a payload: at most 41 and those of Data.
+// Write gives the bytes of a payload: at most 41 and those of Data, of which a call
+// has most.
 func Write(p Payload) []byte {
 	data := []byte{byte(p.Kind)}
 	for _, n := range []uint64{p.Token, p.Session, p.Number, p.Position} {

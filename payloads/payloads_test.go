@@ -10,7 +10,7 @@ import (
 )
 
 func kinds() []Kind {
-	return []Kind{Hello, Here, Subscribe, Got, Done, Welcome, Heard, Item, Finished, Lost, Missed, Unknown}
+	return []Kind{Hello, Here, Subscribe, Call, Got, Done, Welcome, Heard, Item, Finished, Lost, Missed, Answer, Unknown}
 }
 
 func TestKindsDiffer(t *testing.T) {
@@ -42,7 +42,8 @@ func TestWriteAndRead(t *testing.T) {
 
 // TestNoneIsTooLong: the longest one goes into a frame.
 func TestNoneIsTooLong(t *testing.T) {
-	longest := Payload{Item, math.MaxUint64, math.MaxUint64, math.MaxUint64, math.MaxUint64, strings.Repeat("d", api.MaxValue)}
+	question := strings.Repeat("n", api.MaxName) + " " + strings.Repeat("d", api.MaxValue)
+	longest := Payload{Call, math.MaxUint64, math.MaxUint64, math.MaxUint64, math.MaxUint64, question}
 	if n := len(Write(longest)); n > api.MaxFrame {
 		t.Errorf("a payload may have %d bytes", n)
 	}

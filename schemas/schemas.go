@@ -86,10 +86,11 @@ func Type(items []Item, name string) (Item, bool) {
 	return items[place], true
 }
 
-// Topic gives the stream of that name.
-func Topic(items []Item, name string) (Item, bool) {
+// Find gives the item of that kind and name; Type is for messages and enums, which
+// share their names.
+func Find(items []Item, kind Kind, name string) (Item, bool) {
 	place := slices.IndexFunc(items, func(item Item) bool {
-		return item.Kind == Stream && item.Name.Text == name
+		return item.Kind == kind && item.Name.Text == name
 	})
 	if place < 0 {
 		return Item{}, false

@@ -57,16 +57,23 @@ func TestTypesOfASchema(t *testing.T) {
 	}
 }
 
-func TestTopicsOfASchema(t *testing.T) {
-	items, _, _ := Read("enum a { b } message d { 1 x int } stream a int call c int int stream e d")
+func TestStreamsAndCallsOfASchema(t *testing.T) {
+	items, _, _ := Read("enum a { b } message d { 1 x int } stream a int call c int text stream e d call f d a")
 	for name, base := range map[string]string{"a": "int", "e": "d"} {
-		if item, ok := Topic(items, name); !ok || item.Kind != Stream || item.Base.Text != base {
-			t.Errorf("Topic of %s = %v, %v", name, item, ok)
+		if item, ok := Find(items, Stream, name); !ok || item.Kind != Stream || item.Base.Text != base {
+			t.Errorf("the stream %s is %v, %v", name, item, ok)
 		}
 	}
-	for _, name := range []string{"", "b", "c", "d", "x", "int"} {
-		if item, ok := Topic(items, name); ok || !reflect.DeepEqual(item, Item{}) {
-			t.Errorf("Topic of %s = %v, %v", name, item, ok)
+	for name, bases := range map[string][2]string{"c": {"int", "text"}, "f": {"d", "a"}} {
+		if item, ok := Find(items, Call, name); !ok || item.Kind != Call || item.Base.Text != bases[0] || item.Answer.Text != bases[1] {
+			t.Errorf("the call %s is %v, %v", name, item, ok)
+		}
+	}
+	for kind, names := range map[Kind][]string{Stream: {"", "b", "c", "d", "f", "x", "int"}, Call: {"", "a", "b", "d", "e", "x", "int"}} {
+		for _, name := range names {
+			if item, ok := Find(items, kind, name); ok || !reflect.DeepEqual(item, Item{}) {
+				t.Errorf("of the kind %d, %q is %v, %v", kind, name, item, ok)
+			}
 		}
 	}
 }
